@@ -1,0 +1,119 @@
+"""What holds of every call: by name as by place, again as before, and nothing handed in is changed."""
+
+import copy
+import unittest
+
+from carryladder.leastmachines import alike, least, parting
+from carryladder.machines import ending, machine_error, written
+from carryladder.machinetexts import machine_text, read_machine
+from carryladder.programs import book_of, composed, neat, program_error
+from carryladder.programtexts import program_text, read_program
+from carryladder.running import result, values
+from tests.helpers import (BLINK, COPY, LOW, MINUS, MIXED, ODD, PARITY, PLUS, outcome, random_machine, random_program,
+                           random_words, seeded)
+
+FULL = (1, (("not", 0),) * 6000)
+SPARE = (2, (("not", 0), ("mask", (1, 0)), ("minus", 1), ("less", 1, 4)))
+
+
+def calls():
+    """Triples of a function, its arguments' names and what is handed in, right and wrong."""
+    rng = seeded(71)
+    found = []
+    for value in ODD + (MINUS, LOW, [MINUS], (1, [1]), (1, ([1], {})), "words 1\n0: 0/0 0/1", "words 1\n0: 0/0 5/1",
+                        "words 1\nv1 = not v0"):
+        for call in (machine_error, program_error, read_machine, read_program):
+            found.append((call, ("value",), (value,)))
+    machines = [MINUS, PLUS, COPY, PARITY, BLINK] + [random_machine(rng, many, 24) for many in (0, 1, 2)]
+    for machine in machines:
+        found += machine_calls(rng, machine)
+        for other in machines:
+            found += [(call, ("one", "other"), (machine, other)) for call in (alike, parting)]
+    for program in [LOW, MIXED, SPARE] + [random_program(rng, many, 30) for many in (0, 1, 2)]:
+        found += program_calls(rng, program)
+    return found + [(composed, ("program", "parts"), (FULL, (part,))) for part in (LOW, MIXED)]
+
+
+def machine_calls(rng, machine):
+    width = rng.choice((1, 9, 256))
+    string = tuple([rng.randrange(2 ** machine[0]) for _ in range(50)])
+    return [
+        (least, ("machine",), (machine,)),
+        (machine_text, ("machine",), (machine,)),
+        (read_machine, ("value",), (machine_text(machine),)),
+        (read_machine, ("value",), (machine_text(machine) + "\n\n0: 0/0",)),
+        (written, ("machine", "width", "words"), (machine, width, random_words(rng, machine[0], width))),
+        (ending, ("machine", "string"), (machine, string)),
+    ]
+
+
+def program_calls(rng, program):
+    width = rng.choice((1, 9, 256))
+    words = random_words(rng, program[0], width)
+    parts = tuple([random_program(rng, 2, 5) for _ in range(program[0])])
+    found = [(call, ("program",), (program,)) for call in (book_of, neat, program_text)]
+    found += [(call, ("program", "width", "words"), (program, width, words)) for call in (values, result)]
+    texts = (program_text(program), program_text(program) + "\n")
+    found += [(read_program, ("value",), (text,)) for text in texts]
+    return found + [(composed, ("program", "parts"), (program, parts))]
+
+
+def parts_of(value):
+    """The value, and all parts of its tuples."""
+    found = [value]
+    for part in found:
+        if isinstance(part, tuple):
+            found.extend(part)
+    return found
+
+
+class CallsTest(unittest.TestCase):
+    def test_by_name_as_by_place(self):
+        for call, names, given in calls():
+            told = outcome(call, *given)
+            self.assertEqual(outcome(call, **dict(zip(names, given))), told, call)
+            backwards = dict(reversed(list(zip(names, given))))
+            self.assertEqual(outcome(call, **backwards), told, call)
+            self.assertEqual(outcome(call, given[0], **dict(zip(names[1:], given[1:]))), told, call)
+
+    def test_calls_made_again(self):
+        told = [outcome(call, *given) for call, _, given in calls()]
+        again = [outcome(call, *given) for call, _, given in reversed(calls())]
+        self.assertEqual(again[::-1], told)
+        # Among these there are errors, so no error between two calls changes what comes behind it.
+        for kind in ("Unfit", "BadMachine", "BadText", "TooMany"):
+            self.assertTrue(any(came.startswith("raises " + kind) for came in told), kind)
+
+    def test_equal_but_other_values(self):
+        for call, _, given in calls():
+            self.assertEqual(outcome(call, *copy.deepcopy(given)), outcome(call, *given))
+
+    def test_what_is_handed_in_stays(self):
+        for call, _, given in calls():
+            before = repr(given)
+            outcome(call, *given)
+            self.assertEqual(repr(given), before)
+
+    def test_what_is_returned_never_changes(self):
+        for call, _, given in calls():
+            try:
+                returned = call(*given)
+            except ValueError:
+                continue
+            for part in parts_of(returned):
+                self.assertIn(type(part), (tuple, int, bool, str, type(None)), call)
+
+    def test_errors_between_calls(self):
+        for _ in range(2):
+            self.assertEqual(outcome(parting, MINUS, COPY), "(2, (1,))")
+            self.assertTrue(outcome(parting, MINUS, PLUS).startswith("raises Unfit"))
+            self.assertEqual(outcome(read_program, "words 0\nv0 = ones"), "(0, (('ones',),))")
+            self.assertTrue(outcome(read_program, "words 0\nv0 = ones\nv1 = v9").startswith("raises BadText"))
+            self.assertEqual(outcome(read_machine, "words 0\n0: 0/1"), "(0, (((0, 1),),))")
+            self.assertTrue(outcome(read_machine, "words 0\n0: 1/1").startswith("raises BadMachine"))
+            self.assertEqual(outcome(composed, LOW, (LOW,))[:4], "(1, ")
+            self.assertTrue(outcome(composed, FULL, (LOW,)).startswith("raises TooMany"))
+
+
+if __name__ == "__main__":
+    unittest.main()

@@ -1,0 +1,49 @@
+"""The document's own examples, as they stand there, the errors too."""
+
+import pathlib
+import unittest
+
+from carryladder.errors import LadderError
+
+FOLDER = pathlib.Path(__file__).parent / "examples"
+
+
+def examples_of(name):
+    """The pairs (source, what it answers) of a file; the answer is None where none is told."""
+    found = []
+    for line in (FOLDER / name).read_text().splitlines():
+        if line.startswith(">>> "):
+            found.append([line[4:], None])
+        else:
+            found[-1][1] = line
+    return found
+
+
+def answer(source, names):
+    try:
+        return repr(eval(source, names))
+    except LadderError as error:
+        fields = ", ".join([repr(field) for field in vars(error).values()])
+        return f"raises {type(error).__name__}({fields})"
+
+
+class ExamplesTest(unittest.TestCase):
+    def check(self, name, names):
+        asked = 0
+        for source, told in examples_of(name):
+            if told is None:
+                exec(source, names)
+                continue
+            asked += 1
+            with self.subTest(source=source):
+                self.assertEqual(answer(source, names), told)
+        return asked
+
+    def test_examples(self):
+        names = {}
+        self.assertEqual(self.check("machines.txt", names), 23)
+        self.assertEqual(self.check("programs.txt", names), 20)
+
+
+if __name__ == "__main__":
+    unittest.main()

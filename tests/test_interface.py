@@ -1,0 +1,47 @@
+"""The names, arguments and files of the document's interface, as far as they have landed."""
+
+import ast
+import importlib
+import inspect
+import pathlib
+import unittest
+
+PACKAGE = pathlib.Path(__file__).parent.parent / "carryladder"
+
+FUNCTIONS = {
+    "machines": {"machine_error": "value", "written": "machine width words", "ending": "machine string"},
+    "leastmachines": {"least": "machine", "alike": "one other", "parting": "one other"},
+    "machinetexts": {"machine_text": "machine", "read_machine": "value"},
+    "programs": {"program_error": "value", "book_of": "program", "neat": "program", "composed": "program parts"},
+    "running": {"values": "program width words", "result": "program width words"},
+    "programtexts": {"program_text": "program", "read_program": "value"},
+}
+
+
+class InterfaceTest(unittest.TestCase):
+    def test_functions_and_their_arguments(self):
+        for module, functions in FUNCTIONS.items():
+            held = importlib.import_module("carryladder." + module)
+            for name, arguments in functions.items():
+                found = inspect.signature(getattr(held, name)).parameters.values()
+                self.assertEqual([parameter.name for parameter in found], arguments.split())
+                for parameter in found:
+                    self.assertEqual(parameter.kind, inspect.Parameter.POSITIONAL_OR_KEYWORD)
+
+    def test_each_is_defined_in_its_own_file(self):
+        for module, functions in FUNCTIONS.items():
+            tree = ast.parse((PACKAGE / (module + ".py")).read_text())
+            defined = [node.name for node in tree.body if isinstance(node, ast.FunctionDef)]
+            for name in functions:
+                self.assertEqual(defined.count(name), 1, name)
+
+    def test_the_errors_are_defined_in_their_file(self):
+        tree = ast.parse((PACKAGE / "errors.py").read_text())
+        defined = [node.name for node in tree.body if isinstance(node, ast.ClassDef)]
+        wanted = ["LadderError", "Unfit", "BadMachine", "BadProgram", "BadTable", "BadText", "BadLog", "TooMany",
+                  "TooManyEdits", "NothingToUndo"]
+        self.assertEqual(sorted(defined), sorted(wanted))
+
+
+if __name__ == "__main__":
+    unittest.main()
