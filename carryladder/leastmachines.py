@@ -1,11 +1,15 @@
 """Least machines, and where two machines part."""
 
-from carryladder.errors import Unfit
-from carryladder.letters import words_of
+from carryladder.bounds import MAX_STATES
+from carryladder.errors import TooMany, Unfit
+from carryladder.partings import parting_at
 
 
 def least(machine):
-    """Return the machine of the fewest states that writes the same, its states in order."""
+    """Return the machine of the fewest states that writes the same, its states in order.
+
+    A machine of more than MAX_STATES states may be handed in; TooMany(MAX_STATES) is raised if more are left.
+    """
     many, rows = machine
     reached = _in_order(rows)
     return many, _in_order(_merged(reached, _classes(reached)))
@@ -42,6 +46,9 @@ def _classes(rows):
         finer = []
         for row in rows:
             finer.append(told.setdefault(_with_states(row, classes), len(told)))
+        # Classes are only ever split, so that there is no need to go on.
+        if len(told) > MAX_STATES:
+            raise TooMany(MAX_STATES)
         if finer == classes:
             return classes
         classes = finer
@@ -66,29 +73,4 @@ def parting(one, other):
     many, rows = one
     if many != other[0]:
         raise Unfit()
-    string = _parting_string(rows, other[1])
-    if string is None:
-        return None
-    return len(string), words_of(many, string)
-
-
-def _parting_string(rows, others):
-    """Return the shortest string, and of these the first one, by which the rows part."""
-    # Pairs of states are gone through in the order of the first strings that come to them,
-    # shorter strings ahead of longer ones, so the first string that parts is the one wanted.
-    strings = {(0, 0): ()}
-    pairs = [(0, 0)]
-    at = 0
-    while at < len(pairs):
-        p, q = pairs[at]
-        for letter in range(len(rows[p])):
-            state, bit = rows[p][letter]
-            second, sign = others[q][letter]
-            string = strings[(p, q)] + (letter,)
-            if bit != sign:
-                return string
-            if (state, second) not in strings:
-                strings[(state, second)] = string
-                pairs.append((state, second))
-        at += 1
-    return None
+    return parting_at(many, rows, other[1])

@@ -143,3 +143,73 @@ def _spoilt_line(rng, text):
     else:
         del lines[at]
     return "\n".join(lines)
+
+
+def machine_of_moves(moves, bits=None):
+    """The machine whose letter x leads the state q to moves[x][q]; it writes 0, or bits[x][q]."""
+    rows = []
+    for q in range(len(moves[0])):
+        rows.append(tuple([(moves[x][q], 0 if bits is None else bits[x][q]) for x in range(len(moves))]))
+    return ({1: 0, 2: 1, 4: 2}[len(moves)], tuple(rows))
+
+
+def cycles(*sizes):
+    """The moves by which states go round in cycles of these sizes, one behind another."""
+    moves = []
+    for size in sizes:
+        moves += [len(moves) + (k + 1) % size for k in range(size)]
+    return moves
+
+
+def states_told(row, state, a, b):
+    """The bit of a row and its state behind, as they are told in words, for one place."""
+    word = row[0]
+    if word == "twice":
+        return state, a
+    if word == "minus":
+        return (a + state) % 2, (1 if a == 1 else state)
+    if word == "plus":
+        return (a + b + state) % 2, (1 if a + b + state >= 2 else 0)
+    if word == "less":
+        return (a + b + state) % 2, (1 if a < b + state else 0)
+    if word == "prefix":
+        return (a + state) % 2, (a + state) % 2
+    return row[1][state], (state + 1) % len(row[1])
+
+
+def stepped(program, standing, letter):
+    """The standing that a letter leads to, and the bit that is written, row by row."""
+    many, rows = program
+    bits = [letter // 2 ** j % 2 for j in range(many)]
+    left, behind = list(standing), []
+    for row in rows:
+        word = row[0]
+        if word in ("zero", "ones"):
+            bits.append(0 if word == "zero" else 1)
+        elif word == "not":
+            bits.append(1 - bits[row[1]])
+        elif word in ("and", "or", "xor"):
+            a, b = bits[row[1]], bits[row[2]]
+            bits.append({"and": a * b, "or": max(a, b), "xor": (a + b) % 2}[word])
+        else:
+            a, b = (0, 0) if word == "mask" else (bits[row[1]], bits[row[-1]])
+            bit, state = states_told(row, left.pop(0), a, b)
+            bits.append(bit)
+            behind.append(state)
+    return tuple(behind), bits[-1]
+
+
+def standings(program, limit=10 ** 6):
+    """All standings of a program, each with its steps; None if there are more than limit."""
+    start = tuple([0 for row in program[1] if row[0] in ("twice", "minus", "plus", "less", "prefix", "mask")])
+    found = {start: None}
+    line = [start]
+    for standing in line:
+        found[standing] = [stepped(program, standing, letter) for letter in range(2 ** program[0])]
+        for behind, _ in found[standing]:
+            if behind not in found:
+                found[behind] = None
+                line.append(behind)
+        if len(found) > limit:
+            return None
+    return found

@@ -3,17 +3,29 @@
 import copy
 import unittest
 
+from carryladder.carrying import machine_of, places
 from carryladder.leastmachines import alike, least, parting
+from carryladder.lookalikes import same, tells, unlike, wrong
 from carryladder.machines import ending, machine_error, written
 from carryladder.machinetexts import machine_text, read_machine
+from carryladder.paperjudge import paper_error
+from carryladder.papers import paper
 from carryladder.programs import book_of, composed, neat, program_error
 from carryladder.programtexts import program_text, read_program
+from carryladder.rings import rings
+from carryladder.rungs import books_of, stands
 from carryladder.running import result, values
-from tests.helpers import (BLINK, COPY, LOW, MINUS, MIXED, ODD, PARITY, PLUS, outcome, random_machine, random_program,
-                           random_words, seeded)
+from carryladder.tricks import (below_lowest, carried, every, gray, greater, lowest_one, run_cleared, same_up_to,
+                                times, ungray, without_lowest)
+from carryladder.turnings import steady, turning, turnings
+from tests.helpers import (BLINK, COPY, LOW, MINUS, MIXED, ODD, PARITY, PLUS, cycles, machine_of_moves, outcome,
+                           random_machine, random_program, random_words, seeded)
+from tests.rungs_told import BOOKS
 
 FULL = (1, (("not", 0),) * 6000)
 SPARE = (2, (("not", 0), ("mask", (1, 0)), ("minus", 1), ("less", 1, 4)))
+GROWN = machine_of_moves([cycles(8), [1, 0, 2, 3, 4, 5, 6, 7], list(range(8)), [0] * 8], [[0] * 7 + [1]] * 4)
+GREAT = (0, tuple([("mask", (0,) * size) for size in (8, 11, 23)]))
 
 
 def calls():
@@ -25,13 +37,23 @@ def calls():
         for call in (machine_error, program_error, read_machine, read_program):
             found.append((call, ("value",), (value,)))
     machines = [MINUS, PLUS, COPY, PARITY, BLINK] + [random_machine(rng, many, 24) for many in (0, 1, 2)]
-    for machine in machines:
-        found += machine_calls(rng, machine)
+    for machine in machines + [GROWN]:
+        found += machine_calls(rng, machine) + rung_calls(machine)
         for other in machines:
             found += [(call, ("one", "other"), (machine, other)) for call in (alike, parting)]
-    for program in [LOW, MIXED, SPARE] + [random_program(rng, many, 30) for many in (0, 1, 2)]:
+    programs = [LOW, MIXED, SPARE, GREAT] + [random_program(rng, many, 30) for many in (0, 1, 2)]
+    for program in programs:
         found += program_calls(rng, program)
-    return found + [(composed, ("program", "parts"), (FULL, (part,))) for part in (LOW, MIXED)]
+        for other in programs:
+            found += [(call, ("one", "other"), (program, other)) for call in (same, unlike)]
+        for machine in machines:
+            found += [(call, ("program", "machine"), (program, machine)) for call in (tells, wrong)]
+    return found + trick_calls() + [(composed, ("program", "parts"), (FULL, (part,))) for part in (LOW, MIXED)]
+
+
+def trick_calls():
+    tricks = (lowest_one, below_lowest, without_lowest, run_cleared, gray, ungray, same_up_to, greater, carried)
+    return [(trick, (), ()) for trick in tricks] + [(trick, ("n",), (n,)) for trick in (times, every) for n in (1, 24)]
 
 
 def machine_calls(rng, machine):
@@ -44,14 +66,27 @@ def machine_calls(rng, machine):
         (read_machine, ("value",), (machine_text(machine) + "\n\n0: 0/0",)),
         (written, ("machine", "width", "words"), (machine, width, random_words(rng, machine[0], width))),
         (ending, ("machine", "string"), (machine, string)),
+        (turning, ("machine", "string"), (machine, string)),
+        (turnings, ("machine",), (machine,)),
+        (steady, ("machine",), (machine,)),
     ]
+
+
+def rung_calls(machine):
+    found = [(books_of, ("machine",), (machine,)), (rings, ("moves",), (turning(machine, (0, 0)),))]
+    for book in BOOKS:
+        found += [(call, ("machine", "book"), (machine, book)) for call in (stands, paper)]
+        for value in (None, ("two", 1), ("ring", 0, (0, 0)), ("even", 0, [0], (0,)), ("back", 0, (1,), (0, [1])),
+                      ("odd", 1, (0,)), ("both", 0, 1, (0,)), ["merge", 0, 1, {"a": 1}], ("merge", 0, 1, 0)):
+            found.append((paper_error, ("machine", "book", "value"), (machine, book, value)))
+    return found
 
 
 def program_calls(rng, program):
     width = rng.choice((1, 9, 256))
     words = random_words(rng, program[0], width)
     parts = tuple([random_program(rng, 2, 5) for _ in range(program[0])])
-    found = [(call, ("program",), (program,)) for call in (book_of, neat, program_text)]
+    found = [(call, ("program",), (program,)) for call in (book_of, neat, program_text, places, machine_of)]
     found += [(call, ("program", "width", "words"), (program, width, words)) for call in (values, result)]
     texts = (program_text(program), program_text(program) + "\n")
     found += [(read_program, ("value",), (text,)) for text in texts]
@@ -74,7 +109,7 @@ class CallsTest(unittest.TestCase):
             self.assertEqual(outcome(call, **dict(zip(names, given))), told, call)
             backwards = dict(reversed(list(zip(names, given))))
             self.assertEqual(outcome(call, **backwards), told, call)
-            self.assertEqual(outcome(call, given[0], **dict(zip(names[1:], given[1:]))), told, call)
+            self.assertEqual(outcome(call, *given[:1], **dict(zip(names[1:], given[1:]))), told, call)
 
     def test_calls_made_again(self):
         told = [outcome(call, *given) for call, _, given in calls()]
@@ -113,6 +148,23 @@ class CallsTest(unittest.TestCase):
             self.assertTrue(outcome(read_machine, "words 0\n0: 1/1").startswith("raises BadMachine"))
             self.assertEqual(outcome(composed, LOW, (LOW,))[:4], "(1, ")
             self.assertTrue(outcome(composed, FULL, (LOW,)).startswith("raises TooMany"))
+            self.assertEqual(outcome(places, LOW), "2")
+            self.assertTrue(outcome(places, GREAT).startswith("raises TooMany"))
+            self.assertEqual(outcome(wrong, LOW, COPY), "(2, (3,))")
+            self.assertTrue(outcome(wrong, LOW, PLUS).startswith("raises Unfit"))
+            self.assertEqual(outcome(unlike, LOW, times(1)), "(2, (3,))")
+            self.assertTrue(outcome(same, GREAT, every(2)).startswith("raises TooMany"))
+            self.assertEqual(outcome(machine_of, times(1)), repr(COPY))
+            self.assertTrue(outcome(machine_of, times(25)).startswith("raises TooMany"))
+            self.assertEqual(outcome(turnings, BLINK), "(((0, 1), (0, 0)), ((1, 0), (0,)))")
+            self.assertTrue(outcome(turnings, GROWN).startswith("raises TooMany"))
+            self.assertEqual(outcome(steady, BLINK), "(2, (((0, 1), (0, 0)),))")
+            self.assertTrue(outcome(steady, GROWN).startswith("raises TooMany"))
+            self.assertEqual(outcome(books_of, PARITY), "('prefix', 'turns')")
+            self.assertTrue(outcome(stands, GROWN, "sums").startswith("raises TooMany"))
+            self.assertEqual(outcome(paper, PARITY, "sums"), "('ring', 0, (1,))")
+            self.assertTrue(outcome(paper, GROWN, "sums").startswith("raises TooMany"))
+            self.assertEqual(outcome(paper_error, PARITY, "sums", ("ring", 0, (1,))), "None")
 
 
 if __name__ == "__main__":

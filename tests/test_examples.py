@@ -7,6 +7,10 @@ from carryladder.errors import LadderError
 
 FOLDER = pathlib.Path(__file__).parent / "examples"
 
+# How many examples with an answer each part of the document has, in its order; names that were set once stay set.
+COUNTS = (("machines", 23), ("programs", 20), ("tricks", 4), ("carrying", 7), ("lookalikes", 7), ("turnings", 5),
+          ("rings", 2), ("rungs", 3), ("papers", 8))
+
 
 def examples_of(name):
     """The pairs (source, what it answers) of a file; the answer is None where none is told."""
@@ -41,8 +45,9 @@ class ExamplesTest(unittest.TestCase):
 
     def test_examples(self):
         names = {}
-        self.assertEqual(self.check("machines.txt", names), 23)
-        self.assertEqual(self.check("programs.txt", names), 20)
+        for name, asked in COUNTS:
+            self.assertEqual(self.check(name + ".txt", names), asked)
+        self.assertEqual(sorted(name + ".txt" for name, _ in COUNTS), sorted(file.name for file in FOLDER.iterdir()))
 
 
 if __name__ == "__main__":

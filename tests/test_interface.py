@@ -15,6 +15,15 @@ FUNCTIONS = {
     "programs": {"program_error": "value", "book_of": "program", "neat": "program", "composed": "program parts"},
     "running": {"values": "program width words", "result": "program width words"},
     "programtexts": {"program_text": "program", "read_program": "value"},
+    "tricks": {"lowest_one": "", "below_lowest": "", "without_lowest": "", "run_cleared": "", "times": "n", "gray": "",
+               "ungray": "", "every": "n", "same_up_to": "", "greater": "", "carried": ""},
+    "carrying": {"places": "program", "machine_of": "program"},
+    "lookalikes": {"tells": "program machine", "wrong": "program machine", "same": "one other", "unlike": "one other"},
+    "turnings": {"turning": "machine string", "turnings": "machine", "steady": "machine"},
+    "rings": {"rings": "moves"},
+    "rungs": {"stands": "machine book", "books_of": "machine"},
+    "papers": {"paper": "machine book"},
+    "paperjudge": {"paper_error": "machine book value"},
 }
 
 
