@@ -44,9 +44,9 @@ def paper_error(machine, book, value):
 
 
 def _is_formed(book, value):
-    if not (is_tuple(value, 2, 4) and isinstance(value[0], str)):
+    if not is_tuple(value, 2, 4) or value[0] not in WORDS[book]:
         return False
-    return value[0] in WORDS[book] and len(value) == 1 + len(SHAPES[value[0]])
+    return len(value) == 1 + len(SHAPES[value[0]])
 
 
 def _items(value, kind):

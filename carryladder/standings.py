@@ -10,8 +10,8 @@ KEEPING = ("twice", "minus", "plus", "less", "prefix")
 def standing_rows(program):
     """Return the rows of the machine whose states are the standings, 0 being the first one.
 
-    Standings as far from the first one are gone through at once, with all letters: of what they
-    have in common each row's bits are the figures in base two of one integer.
+    Standings that are come to by equally many letters are gone through together, each with every letter:
+    the bits that a row has for all of them are the figures, in base two, of one integer.
     """
     many, rows = program
     periods = sorted(set([len(row[1]) for row in rows if row[0] == "mask"]))

@@ -80,6 +80,27 @@ def with_cycles(rng, *sizes):
     return machine_of_moves([moves, other] if rng.randrange(2) else [moves, moves])
 
 
+def linked_cycles(*sizes):
+    """The machine of 24 states each letter of which leads round in a cycle, and to the state 23 from elsewhere.
+
+    Each two cycles share a state; so there are few turnings, but no two letters go round together.
+    """
+    ways, states = [[] for _ in sizes], 0
+    for one, other in itertools.combinations(range(len(sizes)), 2):
+        ways[one].append(states)
+        ways[other].append(states)
+        states += 1
+    for way, size in zip(ways, sizes):
+        while len(way) < size:
+            way.append(states)
+            states += 1
+    moves = [[23] * 24 for _ in ways]
+    for own, way in zip(moves, ways):
+        for q, following in zip(way, way[1:] + way[:1]):
+            own[q] = following
+    return machine_of_moves(moves)
+
+
 class TurningTest(unittest.TestCase):
     def test_each_state_is_led(self):
         rng = seeded(261)
@@ -312,28 +333,17 @@ class SteadyTest(unittest.TestCase):
         rounds = [cycles(7) + [8] * 17, [1, 0, 2, 3, 4, 5, 6] + [8] * 17]
         self.assertEqual(outcome(steady, machine_of_moves(rounds)), MANY)
 
-    def test_s_beyond_2000(self):
-        # Four letters lead round in four cycles, two of which have one state in common; all else is lost.
-        sizes, ways, states = (5, 7, 8, 9), [[], [], [], []], 0
-        for one, other in itertools.combinations(range(4), 2):
-            ways[one].append(states)
-            ways[other].append(states)
-            states += 1
-        for way, size in zip(ways, sizes):
-            while len(way) < size:
-                way.append(states)
-                states += 1
-        self.assertEqual(states, 23)
-        moves = [[23] * 24 for _ in ways]
-        for own, way in zip(moves, ways):
-            for q, following in zip(way, way[1:] + way[:1]):
-                own[q] = following
+    def test_s_near_2000_and_beyond(self):
         start = time.perf_counter()
-        self.assertEqual(outcome(steady, machine_of_moves(moves)), MANY)
-        self.assertLess(len(turnings(machine_of_moves(moves))), 600)
-        # With three of these s is 360.
-        s, pairs = steady(machine_of_moves([moves[0], moves[2], moves[3], moves[3]]))
-        self.assertEqual(s, 360)
+        self.assertEqual(outcome(steady, linked_cycles(5, 7, 8, 9)), MANY)
+        self.assertEqual(outcome(steady, linked_cycles(5, 6, 7, 11)), MANY)
+        for sizes, told in (((4, 5, 9, 11), 1980), ((5, 7, 9, 4), 1260), ((8, 9, 5, 5), 360)):
+            machine = linked_cycles(*sizes)
+            self.assertLess(len(turnings(machine)), 600)
+            s, pairs = steady(machine)
+            self.assertEqual(s, told)
+            for own, string in pairs[::50]:
+                self.assertEqual((len(string), told_turning(machine, string)), (s, own))
         self.assertLess(time.perf_counter() - start, 60)
 
     def test_lots_of_two_thousand_and_a_great_s(self):
