@@ -1,6 +1,6 @@
 """Of what kind a value is that may be any value."""
 
-from carryladder.bounds import MAX_WORDS
+from carryladder.bounds import MAX_NAME, MAX_WORDS
 
 
 def is_integer(value, most):
@@ -18,6 +18,13 @@ def is_numeral(text, most):
     if not (text.isascii() and text.isdigit() and len(text) <= most):
         return False
     return text == "0" or text[0] != "0"
+
+
+def is_name(value):
+    """Tell whether value is a str of 1 to MAX_NAME small letters a to z."""
+    if not (isinstance(value, str) and len(value) <= MAX_NAME):
+        return False
+    return value.isascii() and value.isalpha() and value.islower()
 
 
 def head_error(value, most):

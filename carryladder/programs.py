@@ -19,6 +19,11 @@ BOOKS = (
 )
 
 
+def is_book(value):
+    """Tell whether value is the name of a book."""
+    return isinstance(value, str) and value in [book for book, _ in BOOKS]
+
+
 def program_error(value):
     """Return None if value is a program, otherwise the first thing that is wrong with it."""
     error = head_error(value, MAX_ROWS)

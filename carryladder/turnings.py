@@ -61,6 +61,20 @@ def turnings(machine):
 def steady(machine):
     """Return (s, pairs): the first s whose lot is that of 2 * s, and the pairs of this lot, ascending."""
     steps = Steps(machine)
+    lots = _lots(machine, steps)
+    half = len(lots) // 2
+    return half, _pairs_of(steps, lots[:half + 1])
+
+
+def steady_lots(machine):
+    """Return the lists of the turnings of the lots of s, s + 1 and so on to 2 * s - 1, s being that of steady."""
+    steps = Steps(machine)
+    lots = _lots(machine, steps)
+    return [[steps.told[number] for number in lot] for lot in lots[len(lots) // 2:-1]]
+
+
+def _lots(machine, steps):
+    """Return the lots of 0, 1 and so on to 2 * s; TooMany(MAX_TURNINGS) if there is no such s, or one is too great."""
     lots = [{steps.number(turning(machine, ())): None}]
     while len(lots) <= 2 * MAX_TURNINGS:
         lots.append(_next_lot(steps, lots[-1]))
@@ -69,7 +83,7 @@ def steady(machine):
             raise TooMany(MAX_TURNINGS)
         half = length // 2
         if length == half + half and sorted(lots[half]) == sorted(lots[length]):
-            return half, _pairs_of(steps, lots[:half + 1])
+            return lots
     raise TooMany(MAX_TURNINGS)
 
 
