@@ -3,11 +3,17 @@
 import copy
 import unittest
 
+from carryladder.benchlogs import bench_behind, log_text, read_log
 from carryladder.carrying import machine_of, places
+from carryladder.counting import lots, noughts, ones_at, ones_in_all
+from carryladder.fewest import fewest, made_with_fewest, setters
+from carryladder.hanging import hangs, reach
 from carryladder.leastmachines import alike, least, parting
 from carryladder.lookalikes import same, tells, unlike, wrong
 from carryladder.machines import ending, machine_error, written
 from carryladder.machinetexts import machine_text, read_machine
+from carryladder.making import made
+from carryladder.onewidth import at_width, hangs_above, table_error, table_of
 from carryladder.paperjudge import paper_error
 from carryladder.papers import paper
 from carryladder.programs import book_of, composed, neat, program_error
@@ -26,6 +32,14 @@ FULL = (1, (("not", 0),) * 6000)
 SPARE = (2, (("not", 0), ("mask", (1, 0)), ("minus", 1), ("less", 1, 4)))
 GROWN = machine_of_moves([cycles(8), [1, 0, 2, 3, 4, 5, 6, 7], list(range(8)), [0] * 8], [[0] * 7 + [1]] * 4)
 GREAT = (0, tuple([("mask", (0,) * size) for size in (8, 11, 23)]))
+LOG = (("put_machine", "m", MINUS), ("make", "p", "m", "minus"), ("take", "n", "p"), ("put_program", "q", LOW),
+       ("drop", "m"))
+
+
+def things_behind(many, value):
+    """bench_behind, by what the bench has."""
+    bench = bench_behind(many=many, value=value)
+    return bench.many, bench.edits, tuple([(name, bench.named(name)) for name in bench.names()])
 
 
 def calls():
@@ -34,11 +48,13 @@ def calls():
     found = []
     for value in ODD + (MINUS, LOW, [MINUS], (1, [1]), (1, ([1], {})), "words 1\n0: 0/0 0/1", "words 1\n0: 0/0 5/1",
                         "words 1\nv1 = not v0"):
-        for call in (machine_error, program_error, read_machine, read_program):
+        for call in (machine_error, program_error, read_machine, read_program, table_error, read_log):
             found.append((call, ("value",), (value,)))
+        found += [(call, ("table",), (value,)) for call in (hangs_above, at_width)]
+        found.append((things_behind, ("many", "value"), (1, value)))
     machines = [MINUS, PLUS, COPY, PARITY, BLINK] + [random_machine(rng, many, 24) for many in (0, 1, 2)]
     for machine in machines + [GROWN]:
-        found += machine_calls(rng, machine) + rung_calls(machine)
+        found += machine_calls(rng, machine) + rung_calls(machine) + other_machine_calls(machine)
         for other in machines:
             found += [(call, ("one", "other"), (machine, other)) for call in (alike, parting)]
     programs = [LOW, MIXED, SPARE, GREAT] + [random_program(rng, many, 30) for many in (0, 1, 2)]
@@ -48,12 +64,38 @@ def calls():
             found += [(call, ("one", "other"), (program, other)) for call in (same, unlike)]
         for machine in machines:
             found += [(call, ("program", "machine"), (program, machine)) for call in (tells, wrong)]
-    return found + trick_calls() + [(composed, ("program", "parts"), (FULL, (part,))) for part in (LOW, MIXED)]
+    return found + trick_calls() + log_calls() + table_calls() + [(composed, ("program", "parts"), (FULL, (part,))) for part in (LOW, MIXED)]
 
 
 def trick_calls():
     tricks = (lowest_one, below_lowest, without_lowest, run_cleared, gray, ungray, same_up_to, greater, carried)
     return [(trick, (), ()) for trick in tricks] + [(trick, ("n",), (n,)) for trick in (times, every) for n in (1, 24)]
+
+
+def log_calls():
+    found = [(log_text, ("log",), (log,)) for log in (LOG, LOG[::-1], ())]
+    texts = (log_text(LOG), log_text(LOG) + "\n", log_text(LOG)[:-1], "drop a\ndrop A\n")
+    found += [(read_log, ("value",), (text,)) for text in texts]
+    logs = (LOG, LOG[::-1], LOG + LOG, LOG * 41, LOG + (["drop", "n"],), LOG + (("drop", []),), [LOG])
+    return found + [(things_behind, ("many", "value"), (many, log)) for many in (1, 2, 3, None) for log in logs]
+
+
+def table_calls():
+    tables = ((1, 2, (0, 3, 2, 1)), (1, 2, (0, 0, 1, 1)), (2, 1, (1, 0, 0, 1)), (1, 2, (0, 3, 2, 4)), (1, 2, [0, 3, 2, 1]))
+    found = [(table_error, ("value",), (table,)) for table in tables]
+    return found + [(call, ("table",), (table,)) for table in tables for call in (hangs_above, at_width)]
+
+
+def other_machine_calls(machine):
+    found = [(call, ("machine",), (machine,)) for call in (setters, fewest, made_with_fewest)]
+    found += [(made, ("machine", "book"), (machine, book)) for book in BOOKS]
+    for width in (1, 7, 256):
+        found += [(call, ("machine", "width"), (machine, width)) for call in (lots, noughts, ones_in_all)]
+        found.append((ones_at, ("machine", "i"), (machine, width - 1)))
+    for j in range(machine[0]):
+        found += [(hangs, ("machine", "j", "distance"), (machine, j, distance)) for distance in (0, 1, 30)]
+        found.append((reach, ("machine", "j"), (machine, j)))
+    return found
 
 
 def machine_calls(rng, machine):
@@ -88,6 +130,7 @@ def program_calls(rng, program):
     parts = tuple([random_program(rng, 2, 5) for _ in range(program[0])])
     found = [(call, ("program",), (program,)) for call in (book_of, neat, program_text, places, machine_of)]
     found += [(call, ("program", "width", "words"), (program, width, words)) for call in (values, result)]
+    found += [(table_of, ("program", "width"), (program, own)) for own in (1, 3, 5, 9, None, [3])]
     texts = (program_text(program), program_text(program) + "\n")
     found += [(read_program, ("value",), (text,)) for text in texts]
     return found + [(composed, ("program", "parts"), (program, parts))]
@@ -116,7 +159,7 @@ class CallsTest(unittest.TestCase):
         again = [outcome(call, *given) for call, _, given in reversed(calls())]
         self.assertEqual(again[::-1], told)
         # Among these there are errors, so no error between two calls changes what comes behind it.
-        for kind in ("Unfit", "BadMachine", "BadText", "TooMany"):
+        for kind in ("Unfit", "BadMachine", "BadTable", "BadText", "BadLog", "TooMany"):
             self.assertTrue(any(came.startswith("raises " + kind) for came in told), kind)
 
     def test_equal_but_other_values(self):
@@ -165,6 +208,17 @@ class CallsTest(unittest.TestCase):
             self.assertEqual(outcome(paper, PARITY, "sums"), "('ring', 0, (1,))")
             self.assertTrue(outcome(paper, GROWN, "sums").startswith("raises TooMany"))
             self.assertEqual(outcome(paper_error, PARITY, "sums", ("ring", 0, (1,))), "None")
+            self.assertTrue(outcome(made, GROWN, "sums").startswith("raises TooMany"))
+            self.assertEqual(outcome(made, COPY, "plain"), "(1, (('and', 0, 0),))")
+            self.assertTrue(outcome(made, PARITY, "sums").startswith("raises Unfit"))
+            self.assertEqual(outcome(hangs_above, (1, 1, (0, 1))), "None")
+            self.assertTrue(outcome(at_width, (1, 2, (0, 0, 1, 1))).startswith("raises Unfit"))
+            self.assertEqual(outcome(fewest, PLUS), "1")
+            self.assertTrue(outcome(fewest, PARITY).startswith("raises Unfit"))
+            self.assertEqual(outcome(read_log, "drop a"), "(('drop', 'a'),)")
+            self.assertTrue(outcome(read_log, "drop A").startswith("raises BadText"))
+            self.assertTrue(outcome(bench_behind, 1, LOG[1:]).startswith("raises BadLog"))
+            self.assertEqual(bench_behind(1, LOG).names(), ("n", "p", "q"))
 
 
 if __name__ == "__main__":

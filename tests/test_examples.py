@@ -9,7 +9,8 @@ FOLDER = pathlib.Path(__file__).parent / "examples"
 
 # How many examples with an answer each part of the document has, in its order; names that were set once stay set.
 COUNTS = (("machines", 23), ("programs", 20), ("tricks", 4), ("carrying", 7), ("lookalikes", 7), ("turnings", 5),
-          ("rings", 2), ("rungs", 3), ("papers", 8))
+          ("rings", 2), ("rungs", 3), ("papers", 8), ("making", 5), ("onewidth", 11), ("counting", 5), ("hanging", 4),
+          ("fewest", 6), ("benches", 11), ("benchlogs", 7), ("shells", 5))
 
 
 def examples_of(name):

@@ -1,4 +1,4 @@
-"""The names, arguments and files of the document's interface, as far as they have landed."""
+"""The names, arguments and files of the document's interface."""
 
 import ast
 import importlib
@@ -24,6 +24,24 @@ FUNCTIONS = {
     "rungs": {"stands": "machine book", "books_of": "machine"},
     "papers": {"paper": "machine book"},
     "paperjudge": {"paper_error": "machine book value"},
+    "making": {"made": "machine book"},
+    "onewidth": {"table_error": "value", "table_of": "program width", "hangs_above": "table", "at_width": "table"},
+    "counting": {"lots": "machine width", "noughts": "machine width", "ones_at": "machine i",
+                 "ones_in_all": "machine width"},
+    "hanging": {"hangs": "machine j distance", "reach": "machine j"},
+    "fewest": {"setters": "machine", "fewest": "machine", "made_with_fewest": "machine"},
+    "benchlogs": {"log_text": "log", "read_log": "value", "bench_behind": "many value"},
+}
+
+# What each class defines itself, with the arguments behind the object.
+CLASSES = {
+    ("benches", "Bench"): {
+        "__init__": "many", "__eq__": "other", "__ne__": "other", "many": "", "edits": "", "version": "", "names": "",
+        "machine_named": "name", "program_named": "name", "tells": "one other", "put_machine": "name machine",
+        "put_program": "name program", "make": "name of book", "take": "name of", "drop": "name", "undo": "",
+        "twin": "",
+    },
+    ("shells", "Shell"): {"__init__": "", "say": "line"},
 }
 
 
@@ -43,6 +61,16 @@ class InterfaceTest(unittest.TestCase):
             defined = [node.name for node in tree.body if isinstance(node, ast.FunctionDef)]
             for name in functions:
                 self.assertEqual(defined.count(name), 1, name)
+
+    def test_each_class_defines_its_methods_itself(self):
+        for (module, name), methods in CLASSES.items():
+            tree = ast.parse((PACKAGE / (module + ".py")).read_text())
+            bodies = [node.body for node in tree.body if isinstance(node, ast.ClassDef) and node.name == name]
+            self.assertEqual(len(bodies), 1, name)
+            defined = {node.name: [argument.arg for argument in node.args.args] for node in bodies[0]
+                       if isinstance(node, ast.FunctionDef)}
+            for method, arguments in methods.items():
+                self.assertEqual(defined.get(method), ["self"] + arguments.split(), method)
 
     def test_the_errors_are_defined_in_their_file(self):
         tree = ast.parse((PACKAGE / "errors.py").read_text())

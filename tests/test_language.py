@@ -12,7 +12,9 @@ FILES = sorted(PACKAGE.rglob("*.py"))
 
 BUILTINS = """len range enumerate zip min max sum abs sorted reversed int str bool bytes list tuple dict set frozenset
     isinstance ord repr any all divmod pow Exception ValueError TypeError KeyError IndexError LookupError
-    ZeroDivisionError ArithmeticError OverflowError RuntimeError NotImplementedError AttributeError""".split()
+    ZeroDivisionError ArithmeticError OverflowError RuntimeError NotImplementedError AttributeError property""".split()
+
+LIBRARY = {"math": ["gcd"]}
 
 METHODS = """append clear copy count endswith extend find get index insert isalnum isalpha isdigit islower isspace
     isupper items join keys ljust lower lstrip partition pop remove replace reverse rfind rjust rpartition rsplit rstrip
@@ -82,6 +84,9 @@ class ImportsTest(unittest.TestCase):
         for file in FILES:
             self.assertEqual(nodes_of(file, ast.Import), [], file)
             for module, names in imported(file):
+                if module in LIBRARY:
+                    self.assertLessEqual(set(names), set(LIBRARY[module]), file)
+                    continue
                 self.assertTrue(module.startswith("carryladder."), file)
                 source = PACKAGE / (module.split(".")[1] + ".py")
                 for name in names:
@@ -97,7 +102,8 @@ class ImportsTest(unittest.TestCase):
                     self.assertIn(name.name, used, file)
 
     def test_no_two_files_import_from_each_other(self):
-        reach = {file.stem: {module.split(".")[1] for module, _ in imported(file)} for file in FILES}
+        reach = {file.stem: {module.split(".")[1] for module, _ in imported(file) if module not in LIBRARY}
+                 for file in FILES}
         for _ in reach:
             reach = {name: own.union(*[reach[other] for other in own]) for name, own in reach.items()}
         for name, own in reach.items():
@@ -167,10 +173,29 @@ class ExpressionsTest(unittest.TestCase):
 
     def test_statements_and_shapes_that_are_barred(self):
         for file in FILES:
-            barred = nodes_of(file, ast.Global, ast.AsyncFunctionDef, ast.AnnAssign, ast.Set, ast.SetComp, ast.Await)
+            barred = nodes_of(file, ast.Global, ast.AsyncFunctionDef, ast.AnnAssign, ast.Set, ast.SetComp, ast.Await,
+                              ast.GeneratorExp, ast.Yield, ast.YieldFrom, ast.Lambda)
             self.assertEqual(barred, [], file)
             for node in nodes_of(file, ast.FunctionDef, ast.ClassDef):
-                self.assertEqual(node.decorator_list, [], node.name)
+                told = [decorator.id for decorator in node.decorator_list]
+                self.assertIn(told, ([], ["property"]), node.name)
+
+    def test_properties_are_never_assigned(self):
+        methods = [node for file in FILES for kind in nodes_of(file, ast.ClassDef) for node in kind.body
+                   if isinstance(node, ast.FunctionDef)]
+        properties = [node.name for node in methods if node.decorator_list]
+        self.assertEqual(sorted(properties), ["edits", "many", "version"])
+        for file in FILES:
+            for node in nodes_of(file, ast.Attribute):
+                if isinstance(node.ctx, ast.Store):
+                    self.assertNotIn(node.attr, properties, file)
+                    self.assertNotIn(node.attr, [method.name for method in methods], file)
+
+    def test_errors_that_are_caught_are_the_package_s_own(self):
+        own = bound_in(tree_of(PACKAGE / "errors.py"))
+        for file in FILES:
+            for node in nodes_of(file, ast.ExceptHandler):
+                self.assertIn(node.type.id, own, file)
 
     def test_exponents_are_literals(self):
         for file in FILES:
