@@ -86,17 +86,18 @@ def _flips(behind):
 
 def _kept(maker, known, behind, period):
     """Return the value of a bit that is nought at first, and then is set, cleared or kept at each place."""
-    # It is a carry of these two: it is set where both are 1, cleared where both are 0, kept where just high is 1.
-    low = dict(behind[0])
+    # It is the carry of two words: set where both have ones, cleared where both have noughts, kept where just the
+    # other one has a one. A nought that stays may have been cleared or kept, a one that stays set or kept.
+    ones = dict(behind[0])
     for key, bit in behind[1].items():
         if bit == 0:
-            low[key] = 0
-    high = dict(behind[1])
+            ones[key] = 0
+    others = dict(behind[1])
     for key, bit in behind[0].items():
         if bit == 1:
-            high[key] = 1
-    setting = decided(maker, known, low, period)
-    staying = decided(maker, known, high, period)
+            others[key] = 1
+    setting = decided(maker, known, ones, period)
+    staying = decided(maker, known, others, period)
     if maker.is_steady(setting, 0):
         return setting
     if maker.is_steady(staying, 1):
@@ -109,7 +110,9 @@ def _corrections(behind, flips, size):
     corrections = ({}, {})
     for own in (0, 1):
         for key, bit in behind[own].items():
+            place = key >> size
+            head = key ^ (place << size)
             for odd in (0, 1):
-                head = key & (1 << size) - 1
-                corrections[own ^ odd][head | odd << size | key >> size << size + 1] = bit ^ odd ^ flips[key]
+                longer = head | (odd << size) | (place << (size + 1))
+                corrections[own ^ odd][longer] = bit ^ odd ^ flips[key]
     return corrections

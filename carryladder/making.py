@@ -4,7 +4,6 @@ from carryladder.descents import descent_codes
 from carryladder.errors import Unfit
 from carryladder.latches import woven
 from carryladder.leastmachines import least
-from carryladder.rings import rings
 from carryladder.risings import memory_codes, rising_codes
 from carryladder.rungs import stands
 from carryladder.turnings import steady_lots
@@ -29,14 +28,27 @@ def made(machine, book):
 
 def _still_period(machine):
     """Return the least divisor of steady's number such that no string of a multiple of its letters turns states."""
-    turning = [_turns(lot) for lot in steady_lots(machine)]
-    size = len(turning)
-    # These lots come again and again, and with a turning each lot has those that are this turning again and again.
-    # The first one is that of size letters, which is a multiple of each divisor; so are those behind it by steps.
-    fitting = [step for step in range(1, size + 1) if size % step == 0 and not any(turning[::step])]
-    return fitting[0]
+    # A string that turns states does so again and again, and the lots come again and again behind the first one of
+    # these. That is the lot of as many letters as these are lots, so its multiples are the steps from it.
+    lots = steady_lots(machine)
+    for step in range(1, len(lots)):
+        if len(lots) % step == 0 and _are_still(lots[::step]):
+            return step
+    return len(lots)
 
 
-def _turns(lot):
-    """Tell whether one of the turnings of a lot has a ring of two states or more."""
-    return any([len(ring) > 1 for moves in lot for ring in rings(moves)])
+def _are_still(lots):
+    """Tell whether no turning of these lots has a ring of two states or more."""
+    for lot in lots:
+        for moves in lot:
+            if not _is_still(moves):
+                return False
+    return True
+
+
+def _is_still(moves):
+    # Behind as many moves as there are states, or more, all stay just if there are only rings of one state.
+    behind = moves
+    for _ in range(len(moves).bit_length()):
+        behind = tuple([behind[state] for state in behind])
+    return behind == tuple([moves[state] for state in behind])

@@ -27,14 +27,14 @@ class Shell:
             return self._answer(word, parts)
         except Unfit:
             return "unfit"
-        except BadMachine as e:
-            return f"bad machine: {_told(e.error)}"
-        except BadProgram as e:
-            return f"bad program: {_told(e.error)}"
-        except BadText as e:
-            return f"bad text: {e.line}"
-        except TooMany as e:
-            return f"too many: {e.limit}"
+        except BadMachine as no_machine:
+            return f"bad machine: {_told(no_machine.error)}"
+        except BadProgram as no_program:
+            return f"bad program: {_told(no_program.error)}"
+        except BadText as no_text:
+            return f"bad text: {no_text.line}"
+        except TooMany as refusal:
+            return f"too many: {refusal.limit}"
         except TooManyEdits:
             return "too many edits"
         except NothingToUndo:
@@ -47,7 +47,8 @@ class Shell:
         if word in ASKING:
             asking = ASKING[word]
             return asking(self._bench, *parts)
-        return f"version {_edited(self._bench, word, parts)}"
+        version = _edited(self._bench, word, parts)
+        return f"version {version}"
 
 
 def _edited(bench, word, parts):

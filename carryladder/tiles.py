@@ -20,6 +20,7 @@ class Tiles:
         self.period = period
         self.images = []
         self.numbers = {}
+        self.by_place = [[] for _ in range(period)]
         # For each place the image of all states; for each image those that come by one letter.
         self.tops = []
         self.following = []
@@ -53,6 +54,7 @@ class Tiles:
             if len(self.images) == MAX_ROWS:
                 raise TooMany(MAX_ROWS)
             self.numbers[key] = len(self.images)
+            self.by_place[place].append(len(self.images))
             self.images.append(key)
         return self.numbers[key]
 
@@ -92,11 +94,11 @@ class Tiles:
 
     def _greatest_within(self, image):
         """Return the greatest images at the same place that lie within an image and are less."""
-        place, whole = self.images[image]
-        within = [(-self.sizes[other], other) for other, (own, lot) in enumerate(self.images)
-                  if own == place and lot & whole == lot and lot != whole]
+        place, _ = self.images[image]
+        within = [(-self.sizes[other], other) for other in self.by_place[place] if self.is_within(other, image)]
         found = []
-        for _, other in sorted(within):
+        # The image itself stands first, as no other one is as great.
+        for _, other in sorted(within)[1:]:
             if not any([self.is_within(other, greater) for greater in found]):
                 found.append(other)
         return tuple(sorted(found))

@@ -24,6 +24,17 @@ def examples_of(name):
     return found
 
 
+def examples_of_readme():
+    """The pairs of a source and its answer in README.md, where they stand behind four blanks."""
+    found = []
+    for line in (FOLDER.parent.parent / "README.md").read_text().splitlines():
+        if line.startswith("    >>> "):
+            found.append([line[8:], None])
+        elif found and line.startswith("    ") and found[-1][1] is None:
+            found[-1][1] = line[4:]
+    return found
+
+
 def answer(source, names):
     try:
         return repr(eval(source, names))
@@ -49,6 +60,16 @@ class ExamplesTest(unittest.TestCase):
         for name, asked in COUNTS:
             self.assertEqual(self.check(name + ".txt", names), asked)
         self.assertEqual(sorted(name + ".txt" for name, _ in COUNTS), sorted(file.name for file in FOLDER.iterdir()))
+
+    def test_readme(self):
+        names, asked = {}, 0
+        for source, told in examples_of_readme():
+            if source.startswith("from ") or " = " in source.split("(")[0]:
+                exec(source, names)
+                continue
+            asked += 1
+            self.assertEqual(answer(source, names), told, source)
+        self.assertEqual(asked, 9)
 
 
 if __name__ == "__main__":

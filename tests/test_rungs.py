@@ -13,19 +13,10 @@ from carryladder.tricks import (below_lowest, carried, every, gray, greater, low
 from carryladder.turnings import steady, turnings
 from tests.helpers import (BLINK, COPY, MINUS, PARITY, PLUS, clock, cycles, machine_of_moves, outcome, raises,
                            random_machine, random_program, renamed, seeded)
+from tests.making_told import PLAIN, WORDS
 from tests.rungs_told import BOOKS, all_lots, all_turnings, told_books, told_stands
 
 MANY = raises(TooMany, limit=2000)
-WORDS = {
-    "plain": (),
-    "prefix": ("prefix",),
-    "twice": ("twice",),
-    "minus": ("minus",),
-    "sums": ("twice", "minus", "plus", "less"),
-    "masks": ("twice", "minus", "plus", "less", "mask"),
-    "turns": ("twice", "minus", "plus", "less", "prefix"),
-}
-PLAIN = ("zero", "ones", "not", "and", "or", "xor")
 
 
 def quotient(odd):
